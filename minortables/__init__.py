@@ -1,0 +1,1 @@
+"""Minortables: tables with no minor below nought."""

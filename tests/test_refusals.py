@@ -1,0 +1,127 @@
+"""What holds of all functions together: what they refuse, in which order, and what they leave as it was."""
+
+import unittest
+from copy import deepcopy
+
+from minortables.errors import NoFit, NoPlace, NoTable
+from minortables.minors import all_minors, by_row, minor, pairs, rank, turned_back, unsigned_back, whole_minor
+from minortables.tables import flipped, is_table, part, plus, times, turned
+from tests.samples import NO_PLACES, NO_TABLES, SQUARES, TABLES
+
+SQUARE = ((1, 2), (3, 4))
+OBLONG = ((1, 2, 3), (4, 5, 6))
+
+# Each takes a table, the other arguments being in order.
+OF_A_TABLE = {
+    "turned": turned,
+    "flipped": flipped,
+    "part": lambda thing: part(thing, (0,), (0,)),
+    "times, the one": lambda thing: times(thing, SQUARE),
+    "times, the other": lambda thing: times(SQUARE, thing),
+    "times, both": lambda thing: times(thing, thing),
+    "plus, the one": lambda thing: plus(thing, SQUARE),
+    "plus, the other": lambda thing: plus(SQUARE, thing),
+    "plus, both": lambda thing: plus(thing, thing),
+    "all_minors": all_minors,
+    "whole_minor": whole_minor,
+    "minor": lambda thing: minor(thing, (0,), (0,)),
+    "rank": rank,
+    "pairs": lambda thing: pairs(thing, 1),
+    "by_row": lambda thing: by_row(thing, 0),
+    "turned_back": turned_back,
+    "unsigned_back": unsigned_back,
+}
+
+# Each takes a table, while another argument is wrong.
+OF_A_TABLE_AMID_WRONGS = {
+    "part, rows": lambda thing: part(thing, (), (0,)),
+    "part, columns": lambda thing: part(thing, (0,), None),
+    "times, the one": lambda thing: times(thing, ((1,),) * 3),
+    "times, the other": lambda thing: times(((1,) * 3,), thing),
+    "plus, the one": lambda thing: plus(thing, ((1,) * 4,) * 4),
+    "plus, the other": lambda thing: plus(((1,) * 4,) * 4, thing),
+    "minor, rows": lambda thing: minor(thing, (-1,), (0,)),
+    "minor, columns": lambda thing: minor(thing, (0,), (9,)),
+    "minor, not as many": lambda thing: minor(thing, (0, 1), (0,)),
+    "pairs, size": lambda thing: pairs(thing, 0),
+    "by_row, row": lambda thing: by_row(thing, -1),
+}
+
+
+class Refusals(unittest.TestCase):
+    def test_what_is_no_table_is_refused_with_no_table(self):
+        for name, told in OF_A_TABLE.items():
+            for thing in NO_TABLES:
+                with self.subTest(name, thing=thing), self.assertRaises(NoTable):
+                    told(thing)
+
+    def test_no_table_comes_first(self):
+        for name, told in OF_A_TABLE_AMID_WRONGS.items():
+            for thing in NO_TABLES:
+                with self.subTest(name, thing=thing), self.assertRaises(NoTable):
+                    told(thing)
+
+    def test_a_table_of_any_size_of_numbers_is_taken(self):
+        far = ((10 ** 50, -10 ** 50), (100, -100))
+        for name, told in OF_A_TABLE.items():
+            with self.subTest(name):
+                told(far)
+
+    def test_no_place_comes_ahead_of_no_fit(self):
+        for thing in NO_PLACES:
+            if isinstance(thing, tuple) and len(thing) == 2:
+                continue
+            with self.subTest(thing=thing):
+                with self.assertRaises(NoPlace):
+                    minor(OBLONG, thing, (0, 1))
+                with self.assertRaises(NoPlace):
+                    minor(OBLONG, (0, 1), thing)
+
+    def test_by_row_has_no_fit_ahead_of_no_place(self):
+        for row in [-1, 2, 3, True, None, "0", (0,), [0]]:
+            with self.subTest(row=row), self.assertRaises(NoFit):
+                by_row(OBLONG, row)
+
+    def test_what_is_handed_in_is_not_changed(self):
+        lists = [[[1, 2], [3, 4]], [(1, 2), (3, 4)], ([1, 2], [3, 4]), ((1, 2), [3, 4])]
+        for name, told in OF_A_TABLE.items():
+            for thing in lists:
+                with self.subTest(name, thing=thing):
+                    kept = deepcopy(thing)
+                    with self.assertRaises(NoTable):
+                        told(thing)
+                    self.assertEqual(thing, kept)
+        for thing in lists:
+            kept = deepcopy(thing)
+            is_table(thing)
+            self.assertEqual(thing, kept)
+
+    def test_places_handed_in_are_not_changed(self):
+        for told in (part, minor):
+            places = [1, 0]
+            for rows, columns in [(places, (0,)), ((0,), places)]:
+                with self.assertRaises(NoPlace):
+                    told(SQUARE, rows, columns)
+            self.assertEqual(places, [1, 0])
+
+
+class ToldLists(unittest.TestCase):
+    def check_anew(self, tell):
+        kept = deepcopy(tell())
+        got = tell()
+        self.assertIsInstance(got, list)
+        got.append("more")
+        got[0] = None
+        self.assertEqual(tell(), kept)
+        got.clear()
+        self.assertEqual(tell(), kept)
+
+    def test_all_minors_are_told_anew(self):
+        for table in TABLES:
+            with self.subTest(table=table):
+                self.check_anew(lambda: all_minors(table))
+
+    def test_by_row_is_told_anew(self):
+        for table in SQUARES:
+            with self.subTest(table=table):
+                self.check_anew(lambda: by_row(table, 0))
