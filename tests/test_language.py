@@ -97,6 +97,8 @@ class Language(unittest.TestCase):
                     self.assertEqual(len(node.targets), 1)
                 if isinstance(node, (ast.FunctionDef, ast.ClassDef)):
                     self.assertEqual(node.decorator_list, [])
+                if isinstance(node, ast.arguments):
+                    self.assertEqual([node.vararg, node.kwarg, node.kwonlyargs, node.posonlyargs], [None, None, [], []])
                 if isinstance(node, ast.Constant):
                     self.assertIsInstance(node.value, (int, str, type(None)))
 
