@@ -18,14 +18,21 @@ def is_short_tuple(thing):
     return isinstance(thing, tuple) and 1 <= len(thing) <= MOST_LINES
 
 
-def is_row(thing):
-    return is_short_tuple(thing) and all([is_whole(number) for number in thing])
+def has_lines(thing):
+    if not is_short_tuple(thing) or not all([is_short_tuple(row) for row in thing]):
+        return False
+    return all([len(row) == len(thing[0]) for row in thing])
+
+
+def numbers_of(table):
+    told = []
+    for row in table:
+        told.extend(row)
+    return told
 
 
 def has_table_form(thing):
-    if not is_short_tuple(thing) or not all([is_row(row) for row in thing]):
-        return False
-    return all([len(row) == len(thing[0]) for row in thing])
+    return has_lines(thing) and all([is_whole(number) for number in numbers_of(thing)])
 
 
 def is_square(table):

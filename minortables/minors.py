@@ -2,7 +2,7 @@
 
 from minortables.checks import need_place, need_places, need_size, need_square, need_table
 from minortables.errors import NoFit
-from minortables.tables import part, turned
+from minortables.tables import columns_of, part_at
 
 
 def without(table, row, column):
@@ -53,7 +53,7 @@ def greatest_size(table):
 def minors_of_rows(table, rows):
     told = []
     for columns in rising_tuples(len(table[0]), len(rows)):
-        told.append((rows, columns, worth_of(part(table, rows, columns))))
+        told.append((rows, columns, worth_of(part_at(table, rows, columns))))
     return told
 
 
@@ -64,12 +64,17 @@ def minors_of_size(table, size):
     return told
 
 
-def all_minors(table):
-    need_table(table)
+def minors_in(table):
+    # Nothing is refused here: within the program there are tables of more than 4 rows or columns.
     told = []
     for size in range(1, greatest_size(table) + 1):
         told.extend(minors_of_size(table, size))
     return told
+
+
+def all_minors(table):
+    need_table(table)
+    return minors_in(table)
 
 
 def whole_minor(table):
@@ -84,7 +89,7 @@ def minor(table, rows, columns):
     need_places(columns, len(table[0]))
     if len(rows) != len(columns):
         raise NoFit("not as many rows as columns")
-    return worth_of(part(table, rows, columns))
+    return worth_of(part_at(table, rows, columns))
 
 
 def rank(table):
@@ -119,10 +124,10 @@ def rest_worths(table, row):
 def turned_back(table):
     need_table(table)
     need_square(table)
-    return turned(tuple([signed_rests(table, row) for row in range(len(table))]))
+    return columns_of(tuple([signed_rests(table, row) for row in range(len(table))]))
 
 
 def unsigned_back(table):
     need_table(table)
     need_square(table)
-    return turned(tuple([rest_worths(table, row) for row in range(len(table))]))
+    return columns_of(tuple([rest_worths(table, row) for row in range(len(table))]))

@@ -19,9 +19,13 @@ def column_of(table, column):
     return tuple([row[column] for row in table])
 
 
+def columns_of(table):
+    return tuple([column_of(table, column) for column in range(len(table[0]))])
+
+
 def turned(table):
     need_table(table)
-    return tuple([column_of(table, column) for column in range(len(table[0]))])
+    return columns_of(table)
 
 
 def flipped(table):
@@ -33,11 +37,15 @@ def picked(row, columns):
     return tuple([row[column] for column in columns])
 
 
+def part_at(table, rows, columns):
+    return tuple([picked(table[row], columns) for row in rows])
+
+
 def part(table, rows, columns):
     need_table(table)
     need_places(rows, len(table))
     need_places(columns, len(table[0]))
-    return tuple([picked(table[row], columns) for row in rows])
+    return part_at(table, rows, columns)
 
 
 def row_by_column(row, column):
@@ -53,7 +61,7 @@ def times(one, other):
     need_table(other)
     if len(one[0]) != len(other):
         raise NoFit("not as many columns as the other has rows")
-    columns = turned(other)
+    columns = columns_of(other)
     return tuple([row_by_columns(row, columns) for row in one])
 
 

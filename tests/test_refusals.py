@@ -3,10 +3,14 @@
 import unittest
 from copy import deepcopy
 
-from minortables.errors import NoFit, NoPlace, NoTable
+from minortables.errors import NoFit, NoPlace, NoSteps, NoTable
+from minortables.fractions import as_fractions, as_whole
+from minortables.good import (corner_room, first_bad, first_minors, how_good, is_good, is_very_good,
+                              is_very_good_by_few, solid_minors)
 from minortables.minors import all_minors, by_row, minor, pairs, rank, turned_back, unsigned_back, whole_minor
+from minortables.steps import can_be_taken_apart, flipped_steps, made_by, product_of, taken_apart, turned_steps
 from minortables.tables import flipped, is_table, part, plus, times, turned
-from tests.samples import NO_PLACES, NO_TABLES, SQUARES, TABLES
+from tests.samples import GOOD_SQUARES, NO_PLACES, NO_TABLES, SQUARES, TABLES
 
 SQUARE = ((1, 2), (3, 4))
 OBLONG = ((1, 2, 3), (4, 5, 6))
@@ -30,7 +34,28 @@ OF_A_TABLE = {
     "by_row": lambda thing: by_row(thing, 0),
     "turned_back": turned_back,
     "unsigned_back": unsigned_back,
+    "first_bad": first_bad,
+    "is_good": is_good,
+    "is_very_good": is_very_good,
+    "how_good": how_good,
+    "solid_minors": solid_minors,
+    "first_minors": first_minors,
+    "is_very_good_by_few": is_very_good_by_few,
+    "corner_room": corner_room,
+    "as_fractions": as_fractions,
+    "can_be_taken_apart": can_be_taken_apart,
 }
+
+# Each takes a table, but not each: of fractions it is to be, or made by steps.
+OF_SOME_TABLES = {
+    "as_whole": as_whole,
+    "product_of, the one": lambda thing: product_of(thing, (((1, 2),),)),
+    "product_of, the other": lambda thing: product_of((((1, 2),),), thing),
+    "product_of, both": lambda thing: product_of(thing, thing),
+    "taken_apart": taken_apart,
+}
+
+OF_ANY_TABLE = OF_A_TABLE | OF_SOME_TABLES
 
 # Each takes a table, while another argument is wrong.
 OF_A_TABLE_AMID_WRONGS = {
@@ -50,7 +75,7 @@ OF_A_TABLE_AMID_WRONGS = {
 
 class Refusals(unittest.TestCase):
     def test_what_is_no_table_is_refused_with_no_table(self):
-        for name, told in OF_A_TABLE.items():
+        for name, told in OF_ANY_TABLE.items():
             for thing in NO_TABLES:
                 with self.subTest(name, thing=thing), self.assertRaises(NoTable):
                     told(thing)
@@ -82,9 +107,26 @@ class Refusals(unittest.TestCase):
             with self.subTest(row=row), self.assertRaises(NoFit):
                 by_row(OBLONG, row)
 
+    def test_no_table_comes_ahead_of_no_fit_and_no_steps(self):
+        # Not square, and with a number below 0, were it a table at all.
+        for thing in [((1, -2, True),), [[1, -2, 3], [4, 5, 6]], ((-1, 2), (3, 4), (5,)), ((-1,) * 5,) * 2]:
+            for told in (is_very_good_by_few, taken_apart, can_be_taken_apart):
+                with self.subTest(thing=thing, told=told), self.assertRaises(NoTable):
+                    told(thing)
+
+    def test_no_fit_comes_ahead_of_no_steps(self):
+        for thing in [((-1, 2),), ((1, 2, 3), (4, 5, 6)), ((0,), (0,))]:
+            with self.subTest(thing=thing), self.assertRaises(NoFit):
+                taken_apart(thing)
+
+    def test_taken_apart_takes_numbers_of_any_size(self):
+        taken_apart(((10 ** 50, 1), (1, 100)))
+        with self.assertRaises(NoSteps):
+            taken_apart(((10 ** 50, -10 ** 50), (100, -100)))
+
     def test_what_is_handed_in_is_not_changed(self):
         lists = [[[1, 2], [3, 4]], [(1, 2), (3, 4)], ([1, 2], [3, 4]), ((1, 2), [3, 4])]
-        for name, told in OF_A_TABLE.items():
+        for name, told in OF_ANY_TABLE.items():
             for thing in lists:
                 with self.subTest(name, thing=thing):
                     kept = deepcopy(thing)
@@ -95,6 +137,12 @@ class Refusals(unittest.TestCase):
             kept = deepcopy(thing)
             is_table(thing)
             self.assertEqual(thing, kept)
+
+    def test_steps_handed_in_are_not_changed(self):
+        steps = [("down", 0, (1, 2)), ("scale", 1, (3, 1)), ("up", 1, (4, 1))]
+        for told in (lambda: made_by(3, steps), lambda: turned_steps(steps), lambda: flipped_steps(3, steps)):
+            told()
+            self.assertEqual(steps, [("down", 0, (1, 2)), ("scale", 1, (3, 1)), ("up", 1, (4, 1))])
 
     def test_places_handed_in_are_not_changed(self):
         for told in (part, minor):
@@ -125,3 +173,26 @@ class ToldLists(unittest.TestCase):
         for table in SQUARES:
             with self.subTest(table=table):
                 self.check_anew(lambda: by_row(table, 0))
+
+    def test_solid_and_first_minors_are_told_anew(self):
+        for table in TABLES:
+            with self.subTest(table=table):
+                self.check_anew(lambda: solid_minors(table))
+                self.check_anew(lambda: first_minors(table))
+
+    def test_steps_are_told_anew(self):
+        for table in GOOD_SQUARES:
+            steps = taken_apart(table)
+            if steps:
+                with self.subTest(table=table):
+                    self.check_anew(lambda: taken_apart(table))
+                    self.check_anew(lambda: turned_steps(steps))
+                    self.check_anew(lambda: flipped_steps(len(table), steps))
+                    self.assertEqual(steps, taken_apart(table))
+
+    def test_lists_of_nothing_are_told_anew(self):
+        steps = []
+        for told in (lambda: taken_apart(((1,),)), lambda: turned_steps(steps), lambda: flipped_steps(2, steps)):
+            told().append("more")
+            self.assertEqual(told(), [])
+            self.assertEqual(steps, [])
