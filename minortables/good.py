@@ -3,7 +3,7 @@
 from minortables.checks import need_square, need_table
 from minortables.fractions import less_of, lowest
 from minortables.minors import all_minors, greatest_size, minors_in, rest_worth
-from minortables.tables import part_at
+from minortables.tables import part_at, rows_out_of
 
 
 def none_below(minors):
@@ -84,20 +84,13 @@ def corner_room(table):
     return least
 
 
-def bit_rows(columns):
-    told = [()]
-    for column in range(columns):
-        told = [row + (0,) for row in told] + [row + (1,) for row in told]
-    return told
-
-
 def good_with_one_more(table, rows):
     longer = [table + (row,) for row in rows]
     return [more for more in longer if none_below(minors_in(more))]
 
 
 def how_many_of_bits(rows, columns):
-    lines = bit_rows(columns)
+    lines = rows_out_of([0, 1], columns)
     # The first rows of a good table are a good table, so none is passed over.
     good = [()]
     for row in range(rows):

@@ -84,3 +84,14 @@ def plain_row(many, place):
 def plain(many):
     need_size(many, MOST_LINES)
     return tuple([plain_row(many, row) for row in range(many)])
+
+
+def rows_out_of(numbers, many):
+    # Each is lengthened in its turn, so of rising numbers they come in rising order.
+    told = [()]
+    for place in range(many):
+        longer = []
+        for row in told:
+            longer.extend([row + (number,) for number in numbers])
+        told = longer
+    return told

@@ -7,7 +7,10 @@ from minortables.errors import NoFit, NoPlace, NoSteps, NoTable
 from minortables.fractions import as_fractions, as_whole
 from minortables.good import (corner_room, first_bad, first_minors, how_good, is_good, is_very_good,
                               is_very_good_by_few, solid_minors)
+from minortables.kinds import heaped, lesser, of_factors, powers, rolled, scaled
 from minortables.minors import all_minors, by_row, minor, pairs, rank, turned_back, unsigned_back, whole_minor
+from minortables.nets import all_sets, sets_of_ways, share_of_sets, share_of_ways, ways
+from minortables.signs import all_rows, least_changes, led, most_changes, row_with_more
 from minortables.steps import can_be_taken_apart, flipped_steps, made_by, product_of, taken_apart, turned_steps
 from minortables.tables import flipped, is_table, part, plus, times, turned
 from tests.samples import GOOD_SQUARES, NO_PLACES, NO_TABLES, SQUARES, TABLES
@@ -44,6 +47,8 @@ OF_A_TABLE = {
     "corner_room": corner_room,
     "as_fractions": as_fractions,
     "can_be_taken_apart": can_be_taken_apart,
+    "led": lambda thing: led(thing, [1, 2]),
+    "row_with_more": lambda thing: row_with_more(thing, 1),
 }
 
 # Each takes a table, but not each: of fractions it is to be, or made by steps.
@@ -70,6 +75,8 @@ OF_A_TABLE_AMID_WRONGS = {
     "minor, not as many": lambda thing: minor(thing, (0, 1), (0,)),
     "pairs, size": lambda thing: pairs(thing, 0),
     "by_row, row": lambda thing: by_row(thing, -1),
+    "led, none": lambda thing: led(thing, []),
+    "led, too many": lambda thing: led(thing, [1, 2, 3, 4, 5]),
 }
 
 
@@ -140,9 +147,22 @@ class Refusals(unittest.TestCase):
 
     def test_steps_handed_in_are_not_changed(self):
         steps = [("down", 0, (1, 2)), ("scale", 1, (3, 1)), ("up", 1, (4, 1))]
-        for told in (lambda: made_by(3, steps), lambda: turned_steps(steps), lambda: flipped_steps(3, steps)):
+        for told in (lambda: made_by(3, steps), lambda: turned_steps(steps), lambda: flipped_steps(3, steps),
+                     lambda: ways(3, steps, 0, 1), lambda: share_of_ways(3, steps, 0, 1),
+                     lambda: sets_of_ways(3, steps, (0, 1), (0, 1)), lambda: share_of_sets(3, steps, (0, 1), (0, 1)),
+                     lambda: all_sets(3, steps, 2)):
             told()
             self.assertEqual(steps, [("down", 0, (1, 2)), ("scale", 1, (3, 1)), ("up", 1, (4, 1))])
+
+    def test_numbers_handed_in_are_not_changed(self):
+        numbers = [3, 0, -1]
+        weights = [2, 1, 5]
+        for told in (powers, lesser, scaled, of_factors, least_changes, most_changes,
+                     lambda some: led(OBLONG, some), lambda some: rolled(some, 2),
+                     lambda some: heaped(some, weights, 3)):
+            told(numbers)
+            self.assertEqual(numbers, [3, 0, -1])
+            self.assertEqual(weights, [2, 1, 5])
 
     def test_places_handed_in_are_not_changed(self):
         for told in (part, minor):
@@ -189,6 +209,22 @@ class ToldLists(unittest.TestCase):
                     self.check_anew(lambda: turned_steps(steps))
                     self.check_anew(lambda: flipped_steps(len(table), steps))
                     self.assertEqual(steps, taken_apart(table))
+
+    def test_ways_and_sets_are_told_anew(self):
+        steps = [("up", 0, (1, 2)), ("down", 0, (3, 1)), ("up", 1, (1, 1)), ("scale", 2, (2, 1))]
+        for start in range(3):
+            self.check_anew(lambda: ways(3, steps, start, start))
+            self.check_anew(lambda: ways(3, [], start, start))
+            self.check_anew(lambda: sets_of_ways(3, steps, (start,), (start,)))
+            self.check_anew(lambda: all_sets(3, steps, start + 1))
+        self.check_anew(lambda: sets_of_ways(3, steps, (0, 1, 2), (0, 1, 2)))
+        self.check_anew(lambda: sets_of_ways(3, [], (0, 2), (0, 2)))
+
+    def test_rows_and_factors_are_told_anew(self):
+        for many in range(1, 5):
+            self.check_anew(lambda: all_rows(many, 1))
+            self.check_anew(lambda: of_factors([1, 2, 3, 4][:many]))
+        self.check_anew(lambda: of_factors([]))
 
     def test_lists_of_nothing_are_told_anew(self):
         steps = []
