@@ -62,6 +62,11 @@ def need_square(table):
         raise NoFit("not as many rows as columns")
 
 
+def need_same_size(one, other):
+    if len(one) != len(other) or len(one[0]) != len(other[0]):
+        raise NoFit("unlike sizes")
+
+
 def need_place(thing, many):
     if not is_place(thing, many):
         raise NoPlace("no such row or column")

@@ -1,7 +1,7 @@
 """Tables: what is one, and others made of them."""
 
 from minortables.checks import MOST_LINES, has_table_form, is_whole_within
-from minortables.checks import need_places, need_size, need_table
+from minortables.checks import need_places, need_same_size, need_size, need_table
 from minortables.errors import NoFit
 
 MOST_NUMBER = 99
@@ -72,8 +72,7 @@ def row_plus(row, other):
 def plus(one, other):
     need_table(one)
     need_table(other)
-    if len(one) != len(other) or len(one[0]) != len(other[0]):
-        raise NoFit("unlike sizes")
+    need_same_size(one, other)
     return tuple([row_plus(row, more) for row, more in zip(one, other)])
 
 

@@ -200,6 +200,11 @@ NO_PLACES = [
     1,
 ]
 
+# None of these is the number of a row, a column or a level, of however many.
+NO_SINGLE_PLACE = [
+    -1, -4, 4, 5, FAR, -FAR, True, False, None, "", "0", "1", (), (0,), (0, 1), [], [0], ((0,),), [[[[[0]]]]],
+]
+
 
 def exchanges(order):
     return sum(1 for one, other in combinations(order, 2) if one > other)

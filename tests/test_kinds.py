@@ -199,8 +199,8 @@ class GoodKinds(unittest.TestCase):
 
     def test_what_is_made_of_them(self):
         for many in range(1, 5):
-            made = [by_sums(many), powers([1, 2, 3, 4][:many]), lesser([0, 1, 1, 5][:many]), scaled([2, 0, 1, 3][:many]),
-                    rolled(of_factors([1, 2]), many), heaped([0, 1, 3], [1, 2, 1], many)]
+            made = [by_sums(many), powers([1, 2, 3, 4][:many]), lesser([0, 1, 1, 5][:many]),
+                    scaled([2, 0, 1, 3][:many]), rolled(of_factors([1, 2]), many), heaped([0, 1, 3], [1, 2, 1], many)]
             for one in made:
                 self.check_good(turned(one))
                 self.check_good(flipped(one))

@@ -8,11 +8,8 @@ from minortables.fractions import as_fractions, is_fraction
 from minortables.minors import all_minors, minor
 from minortables.nets import all_sets, sets_of_ways, share_of_sets, share_of_ways, ways
 from minortables.steps import made_by, taken_apart
-from tests.samples import FAR, GOOD_SQUARES, NO_PLACES, cut, reckoned
+from tests.samples import GOOD_SQUARES, NO_PLACES, NO_SINGLE_PLACE, cut, reckoned
 from tests.test_steps import NO_MANY, NO_STEP, SOME_STEPS, put_together, runs, step_as_table
-
-# None of these is a level, of however many.
-NO_LEVEL = [-1, -4, 4, 5, FAR, -FAR, True, False, None, "", "0", "1", (), (0,), (0, 1), [], [0], ((0,),), [[[[[0]]]]]]
 
 # Of these one goes up and down again, stays at 0 shares, and meets where two go to one level.
 BRAIDS = {
@@ -315,7 +312,7 @@ class RefusalsOfNets(unittest.TestCase):
 
     def test_what_is_no_level(self):
         for many, steps in SOME_STEPS.items():
-            for thing in NO_LEVEL + [many]:
+            for thing in NO_SINGLE_PLACE + [many]:
                 self.refused(NoPlace, many, steps, thing, 0)
                 self.refused(NoPlace, many, steps, 0, thing)
                 self.refused(NoPlace, many, steps, thing, thing)
@@ -333,7 +330,7 @@ class RefusalsOfNets(unittest.TestCase):
             self.refused_sets(NoFit, 3, [], some, others)
 
     def test_no_step_comes_first_and_then_no_place(self):
-        for thing in NO_LEVEL:
+        for thing in NO_SINGLE_PLACE:
             self.refused(NoStep, 2, [("up", 1, (1, 1))], thing, 0)
             self.refused(NoStep, 2, [("up", 1, (1, 1))], 0, thing)
             self.refused(NoStep, 5, [], thing, thing)

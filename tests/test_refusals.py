@@ -3,16 +3,20 @@
 import unittest
 from copy import deepcopy
 
+from minortables.cases import Case
 from minortables.errors import NoFit, NoPlace, NoSteps, NoTable
 from minortables.fractions import as_fractions, as_whole
 from minortables.good import (corner_room, first_bad, first_minors, how_good, is_good, is_very_good,
                               is_very_good_by_few, solid_minors)
+from minortables.joining import row_added, rows_exchanged, set_aslant, set_below, set_beside
 from minortables.kinds import heaped, lesser, of_factors, powers, rolled, scaled
+from minortables.measuring import go_together, is_even, power, signs_in, slant_sum, sums, unlike_places
 from minortables.minors import all_minors, by_row, minor, pairs, rank, turned_back, unsigned_back, whole_minor
 from minortables.nets import all_sets, sets_of_ways, share_of_sets, share_of_ways, ways
 from minortables.signs import all_rows, least_changes, led, most_changes, row_with_more
 from minortables.steps import can_be_taken_apart, flipped_steps, made_by, product_of, taken_apart, turned_steps
 from minortables.tables import flipped, is_table, part, plus, times, turned
+from minortables.texts import table_text
 from tests.samples import GOOD_SQUARES, NO_PLACES, NO_TABLES, SQUARES, TABLES
 
 SQUARE = ((1, 2), (3, 4))
@@ -49,6 +53,30 @@ OF_A_TABLE = {
     "can_be_taken_apart": can_be_taken_apart,
     "led": lambda thing: led(thing, [1, 2]),
     "row_with_more": lambda thing: row_with_more(thing, 1),
+    "table_text": table_text,
+    "sums": sums,
+    "slant_sum": slant_sum,
+    "signs_in": signs_in,
+    "is_even": is_even,
+    "unlike_places, the one": lambda thing: unlike_places(thing, SQUARE),
+    "unlike_places, the other": lambda thing: unlike_places(SQUARE, thing),
+    "unlike_places, both": lambda thing: unlike_places(thing, thing),
+    "power": lambda thing: power(thing, 2),
+    "power, 0 times": lambda thing: power(thing, 0),
+    "go_together, the one": lambda thing: go_together(thing, SQUARE),
+    "go_together, the other": lambda thing: go_together(SQUARE, thing),
+    "go_together, both": lambda thing: go_together(thing, thing),
+    "set_below, the one": lambda thing: set_below(thing, SQUARE),
+    "set_below, the other": lambda thing: set_below(SQUARE, thing),
+    "set_below, both": lambda thing: set_below(thing, thing),
+    "set_beside, the one": lambda thing: set_beside(thing, SQUARE),
+    "set_beside, the other": lambda thing: set_beside(SQUARE, thing),
+    "set_beside, both": lambda thing: set_beside(thing, thing),
+    "set_aslant, the one": lambda thing: set_aslant(thing, SQUARE),
+    "set_aslant, the other": lambda thing: set_aslant(SQUARE, thing),
+    "set_aslant, both": lambda thing: set_aslant(thing, thing),
+    "rows_exchanged": lambda thing: rows_exchanged(thing, 0, 0),
+    "row_added": lambda thing: row_added(thing, 0, 1, 2),
 }
 
 # Each takes a table, but not each: of fractions it is to be, or made by steps.
@@ -58,6 +86,7 @@ OF_SOME_TABLES = {
     "product_of, the other": lambda thing: product_of((((1, 2),),), thing),
     "product_of, both": lambda thing: product_of(thing, thing),
     "taken_apart": taken_apart,
+    "put": lambda thing: Case().put("a", thing),
 }
 
 OF_ANY_TABLE = OF_A_TABLE | OF_SOME_TABLES
@@ -77,6 +106,21 @@ OF_A_TABLE_AMID_WRONGS = {
     "by_row, row": lambda thing: by_row(thing, -1),
     "led, none": lambda thing: led(thing, []),
     "led, too many": lambda thing: led(thing, [1, 2, 3, 4, 5]),
+    "unlike_places, the one": lambda thing: unlike_places(thing, ((1,) * 4,) * 4),
+    "unlike_places, the other": lambda thing: unlike_places(((1,) * 4,) * 4, thing),
+    "power, below 0": lambda thing: power(thing, -1),
+    "go_together, the one": lambda thing: go_together(thing, OBLONG),
+    "go_together, the other": lambda thing: go_together(OBLONG, thing),
+    "set_below, the one": lambda thing: set_below(thing, ((1,) * 4,) * 4),
+    "set_below, the other": lambda thing: set_below(((1,) * 4,) * 4, thing),
+    "set_beside, the one": lambda thing: set_beside(thing, ((1,) * 4,) * 4),
+    "set_beside, the other": lambda thing: set_beside(((1,) * 4,) * 4, thing),
+    "set_aslant, the one": lambda thing: set_aslant(thing, ((1,) * 4,) * 4),
+    "set_aslant, the other": lambda thing: set_aslant(((1,) * 4,) * 4, thing),
+    "rows_exchanged, row": lambda thing: rows_exchanged(thing, 0, 4),
+    "row_added, row": lambda thing: row_added(thing, None, 0, 1),
+    "row_added, the same": lambda thing: row_added(thing, 0, 0, 1),
+    "put, name": lambda thing: Case().put("A", thing),
 }
 
 
@@ -225,6 +269,21 @@ class ToldLists(unittest.TestCase):
             self.check_anew(lambda: all_rows(many, 1))
             self.check_anew(lambda: of_factors([1, 2, 3, 4][:many]))
         self.check_anew(lambda: of_factors([]))
+
+    def test_names_are_told_anew(self):
+        case = Case()
+        case.names().append("more")
+        self.assertEqual(case.names(), [])
+        case.put("a", SQUARE)
+        case.put("b", OBLONG)
+        self.check_anew(case.names)
+        self.assertEqual(case.table_of("a"), SQUARE)
+        self.assertEqual(case.counts(), (2, 0))
+
+    def test_unlike_places_are_told_anew(self):
+        self.check_anew(lambda: unlike_places(SQUARE, ((0, 0), (0, 0))))
+        unlike_places(SQUARE, SQUARE).append("more")
+        self.assertEqual(unlike_places(SQUARE, SQUARE), [])
 
     def test_lists_of_nothing_are_told_anew(self):
         steps = []
